@@ -7,32 +7,13 @@ import (
 	"strings"
 	"testing"
 	"unsafe"
+
+	"ossuary/bittext"
 )
-
-// of tells the bits that the digits 0 and 1 of s are.
-func of(s string) []bool {
-	var b []bool
-	for _, digit := range strings.ReplaceAll(s, " ", "") {
-		b = append(b, digit == '1')
-	}
-	return b
-}
-
-func told(b []bool) string {
-	var s strings.Builder
-	for _, bit := range b {
-		if bit {
-			s.WriteByte('1')
-		} else {
-			s.WriteByte('0')
-		}
-	}
-	return s.String()
-}
 
 // noBits has lists without a bit, each made in another way.
 func noBits() [][]bool {
-	return [][]bool{nil, {}, of("1")[:0], make([]bool, 0, 40)}
+	return [][]bool{nil, {}, bittext.Bits("1")[:0], make([]bool, 0, 40)}
 }
 
 func randomBits(r *rand.Rand, n int) []bool {
@@ -46,8 +27,8 @@ func randomBits(r *rand.Rand, n int) []bool {
 func checkPut(t *testing.T, b []bool, n, width int, want string) {
 	t.Helper()
 	got, ok := Put(b, n, width)
-	if told(got) != want || !ok {
-		t.Errorf("Put(%s, %d, %d): %s, %v, not %s", told(b), n, width, told(got), ok, want)
+	if bittext.Text(got) != want || !ok {
+		t.Errorf("Put(%s, %d, %d): %s, %v, not %s", bittext.Text(b), n, width, bittext.Text(got), ok, want)
 	}
 }
 
@@ -73,7 +54,7 @@ func TestPut(t *testing.T) {
 		{"1", 1, 30, "1" + strings.Repeat("0", 29) + "1"},
 		{"11111111", 0xa5, 8, "1111111110100101"},
 	} {
-		checkPut(t, of(c.b), c.n, c.width, c.want)
+		checkPut(t, bittext.Bits(c.b), c.n, c.width, c.want)
 	}
 	for _, none := range noBits() {
 		checkPut(t, none, 6, 3, "110")
@@ -84,10 +65,10 @@ func TestPut(t *testing.T) {
 // P3.1: the least and the greatest number of each width, and those beside them.
 func TestPutOfEachWidth(t *testing.T) {
 	for width := range 31 {
-		checkPut(t, of("10"), 0, width, "10"+strings.Repeat("0", width))
-		checkPut(t, of("10"), 1<<width-1, width, "10"+strings.Repeat("1", width))
-		putsNothing(t, of("10"), 1<<width, width)
-		putsNothing(t, of("10"), -1, width)
+		checkPut(t, bittext.Bits("10"), 0, width, "10"+strings.Repeat("0", width))
+		checkPut(t, bittext.Bits("10"), 1<<width-1, width, "10"+strings.Repeat("1", width))
+		putsNothing(t, bittext.Bits("10"), 1<<width, width)
+		putsNothing(t, bittext.Bits("10"), -1, width)
 		putsNothing(t, nil, -1<<width, width)
 		putsNothing(t, nil, math.MinInt, width)
 		putsNothing(t, nil, math.MaxInt, width)
@@ -98,7 +79,7 @@ func TestPutOfEachWidth(t *testing.T) {
 func putsNothing(t *testing.T, b []bool, n, width int) {
 	t.Helper()
 	if got, ok := Put(b, n, width); len(got) != 0 || ok {
-		t.Errorf("Put(%s, %d, %d): %s, %v", told(b), n, width, told(got), ok)
+		t.Errorf("Put(%s, %d, %d): %s, %v", bittext.Text(b), n, width, bittext.Text(got), ok)
 	}
 }
 
@@ -106,7 +87,7 @@ func putsNothing(t *testing.T, b []bool, n, width int) {
 func TestPutOfWrongWidths(t *testing.T) {
 	for _, width := range []int{-1, 31, 32, 62, 63, 64, 65, -64, math.MinInt, math.MaxInt} {
 		for _, n := range []int{0, 1, -1, 1 << 30, math.MaxInt, math.MinInt} {
-			putsNothing(t, of("1"), n, width)
+			putsNothing(t, bittext.Bits("1"), n, width)
 			putsNothing(t, nil, n, width)
 		}
 	}
@@ -133,7 +114,7 @@ func TestTake(t *testing.T) {
 		{"1" + strings.Repeat("0", 29) + "1", 1, 30, 1, 31},
 		{"1" + strings.Repeat("0", 40), 0, 29, 1 << 28, 29},
 	} {
-		n, next, ok := Take(of(c.b), c.at, c.width)
+		n, next, ok := Take(bittext.Bits(c.b), c.at, c.width)
 		if n != c.n || next != c.next || !ok {
 			t.Errorf("Take(%s, %d, %d): %d, %d, %v", c.b, c.at, c.width, n, next, ok)
 		}
@@ -148,13 +129,13 @@ func TestTake(t *testing.T) {
 func takesNothing(t *testing.T, b []bool, at, width int) {
 	t.Helper()
 	if n, next, ok := Take(b, at, width); n != 0 || next != 0 || ok {
-		t.Errorf("Take(%s, %d, %d): %d, %d, %v", told(b), at, width, n, next, ok)
+		t.Errorf("Take(%s, %d, %d): %d, %d, %v", bittext.Text(b), at, width, n, next, ok)
 	}
 }
 
 // P3.1: widths that are none, places outside, and bits that are not all there.
 func TestTakeOfWhatIsNotThere(t *testing.T) {
-	for _, b := range [][]bool{nil, {}, of("1"), of("10110111"), of(strings.Repeat("1", 100))} {
+	for _, b := range [][]bool{nil, {}, bittext.Bits("1"), bittext.Bits("10110111"), bittext.Bits(strings.Repeat("1", 100))} {
 		for _, width := range []int{-1, 31, 32, 63, 64, math.MinInt, math.MaxInt} {
 			for _, at := range []int{0, len(b), -1, math.MaxInt} {
 				takesNothing(t, b, at, width)
@@ -174,7 +155,7 @@ func TestTakeOfWhatIsNotThere(t *testing.T) {
 
 // P3.1: bits that lie behind a list are none of its own.
 func TestTakeOfBitsBehindTheList(t *testing.T) {
-	whole := of("11111111")
+	whole := bittext.Bits("11111111")
 	takesNothing(t, whole[:4], 2, 3)
 	takesNothing(t, whole[:4], 5, 0)
 	takesNothing(t, whole[:0], 0, 1)
@@ -197,7 +178,7 @@ func TestPack(t *testing.T) {
 		{"00000001 10000000 010", "\x01\x80\x40"},
 		{"01100001 01100010", "ab"},
 	} {
-		if got := Pack(of(c.b)); got != c.want {
+		if got := Pack(bittext.Bits(c.b)); got != c.want {
 			t.Errorf("Pack(%s): %q, not %q", c.b, got, c.want)
 		}
 	}
@@ -220,14 +201,14 @@ func TestUnpack(t *testing.T) {
 		{"ab", "0110000101100010"},
 		{"\xc3\xa4", "1100001110100100"},
 	} {
-		if got := told(Unpack(c.s)); got != c.want {
+		if got := bittext.Text(Unpack(c.s)); got != c.want {
 			t.Errorf("Unpack(%q): %s, not %s", c.s, got, c.want)
 		}
 	}
 	for b := range 256 {
 		got := Unpack(string([]byte{byte(b)}))
 		if n, _, ok := Take(got, 0, 8); n != b || len(got) != 8 || !ok {
-			t.Errorf("of the byte %d: %s", b, told(got))
+			t.Errorf("of the byte %d: %s", b, bittext.Text(got))
 		}
 	}
 }
@@ -263,7 +244,7 @@ func TestWhatIsPackedIsUnpacked(t *testing.T) {
 		got := Unpack(Pack(b))
 		more := len(got) - n
 		if more < 0 || more > 7 || len(got)%8 != 0 || !slices.Equal(got[:n], b) || slices.Contains(got[n:], true) {
-			t.Errorf("%s is unpacked as %s", told(b), told(got))
+			t.Errorf("%s is unpacked as %s", bittext.Text(b), bittext.Text(got))
 		}
 		s := Pack(got)
 		if Pack(Unpack(s)) != s || len(s) != (n+7)/8 {
@@ -274,13 +255,13 @@ func TestWhatIsPackedIsUnpacked(t *testing.T) {
 
 // R4: neither the bits that are given are changed, nor what lies behind them.
 func TestArgumentsStay(t *testing.T) {
-	whole := of("1111111111111111111111111111111111111111")
+	whole := bittext.Bits("1111111111111111111111111111111111111111")
 	part := whole[:4]
 	Put(part, 0, 30)
 	Take(part, 0, 4)
 	Pack(part)
-	if told(whole) != strings.Repeat("1", 40) {
-		t.Errorf("after calls: %s", told(whole))
+	if bittext.Text(whole) != strings.Repeat("1", 40) {
+		t.Errorf("after calls: %s", bittext.Text(whole))
 	}
 	for _, width := range []int{0, 3} {
 		got, _ := Put(part, 0, width)
@@ -291,8 +272,8 @@ func TestArgumentsStay(t *testing.T) {
 			got[i] = false
 		}
 	}
-	if told(part) != "1111" {
-		t.Errorf("after an answer was changed: %s", told(part))
+	if bittext.Text(part) != "1111" {
+		t.Errorf("after an answer was changed: %s", bittext.Text(part))
 	}
 }
 
@@ -301,7 +282,7 @@ func TestAnswersStay(t *testing.T) {
 	b, _ := Put(nil, 1, 1)
 	one, _ := Put(b, 0, 2)
 	other, _ := Put(b, 3, 2)
-	if told(one) != "100" || told(other) != "111" {
-		t.Errorf("on one list: %s and %s", told(one), told(other))
+	if bittext.Text(one) != "100" || bittext.Text(other) != "111" {
+		t.Errorf("on one list: %s and %s", bittext.Text(one), bittext.Text(other))
 	}
 }
