@@ -26,3 +26,12 @@ func Text(b []bool) string {
 	}
 	return s.String()
 }
+
+// Number tells the last width binary digits of n, which is not below 0.
+func Number(n, width int) string {
+	b := make([]bool, width)
+	for i := range b {
+		b[i] = n>>(width-1-i)&1 == 1
+	}
+	return Text(b)
+}

@@ -22,3 +22,15 @@ func TestText(t *testing.T) {
 		t.Error(s)
 	}
 }
+
+func TestNumber(t *testing.T) {
+	if s := Number(6, 5); s != "00110" {
+		t.Error(s)
+	}
+	if s := Number(6, 2); s != "10" {
+		t.Error(s)
+	}
+	if s := Number(6, 0); s != "" {
+		t.Error(s)
+	}
+}

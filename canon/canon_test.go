@@ -30,16 +30,6 @@ func up(from, to int) []int {
 	return l
 }
 
-// digits tells n in so many binary digits.
-func digits(n, width int) string {
-	s := ""
-	for range width {
-		s = string(rune('0'+n%2)) + s
-		n /= 2
-	}
-	return s
-}
-
 // plainMay goes by the words of P6.1.
 func plainMay(l []int) bool {
 	kraft := 0
@@ -84,7 +74,7 @@ func plainRead(l []int, s string, at int) (int, int, bool) {
 		return 0, 0, false
 	}
 	for symbol, c := range plainCodes(l) {
-		if code := digits(c.Bits, c.Len); c.Len > 0 && strings.HasPrefix(s[at:], code) {
+		if code := bittext.Number(c.Bits, c.Len); c.Len > 0 && strings.HasPrefix(s[at:], code) {
 			return symbol, at + len(code), true
 		}
 	}
@@ -100,7 +90,7 @@ func checkCodes(t *testing.T, l []int, want string) {
 		if c == (api.Code{}) {
 			all = append(all, "-")
 		} else {
-			all = append(all, digits(c.Bits, c.Len))
+			all = append(all, bittext.Number(c.Bits, c.Len))
 		}
 		if c.Bits < 0 || c.Bits >= 1<<c.Len {
 			t.Errorf("Codes(%v): %v", l, c)
@@ -352,7 +342,7 @@ func TestWrite(t *testing.T) {
 	checkWrite(t, []int{2, 3, 3}, 1, "010", true)
 	checkWrite(t, []int{7}, 0, "0000000", true)
 	for symbol, c := range plainCodes(up(1, 15)) {
-		checkWrite(t, up(1, 15), symbol, digits(c.Bits, c.Len), true)
+		checkWrite(t, up(1, 15), symbol, bittext.Number(c.Bits, c.Len), true)
 	}
 }
 
@@ -366,7 +356,7 @@ func TestWriteOfSymbols(t *testing.T) {
 	// What lies behind a list is none of its own.
 	checkWrite(t, l[:2], 1, "0", true)
 	checkWrite(t, l[:2], 2, "", false)
-	checkWrite(t, same(9, 300), 299, digits(299, 9), true)
+	checkWrite(t, same(9, 300), 299, bittext.Number(299, 9), true)
 	checkWrite(t, same(9, 300), 300, "", false)
 	checkWrite(t, same(9, 301), 0, "", false)
 	checkWrite(t, same(9, 301), 300, "", false)
@@ -431,7 +421,7 @@ func TestReadAt(t *testing.T) {
 func TestReadOfTooFew(t *testing.T) {
 	l := join(up(1, 15), []int{15})
 	for symbol, c := range plainCodes(l) {
-		s := digits(c.Bits, c.Len)
+		s := bittext.Number(c.Bits, c.Len)
 		checkRead(t, l, s, 0, symbol, len(s), true)
 		checkRead(t, l, "0"+s, 1, symbol, len(s)+1, true)
 		for n := range len(s) {
@@ -481,7 +471,7 @@ func TestReadByItsWords(t *testing.T) {
 	for _, l := range allLists(4) {
 		for width := range 8 {
 			for n := range 1 << width {
-				checkPlainRead(t, l, digits(n, width), n%(width+1))
+				checkPlainRead(t, l, bittext.Number(n, width), n%(width+1))
 			}
 		}
 	}
@@ -525,7 +515,7 @@ func TestNoCodeBeginsWithAnother(t *testing.T) {
 		var all []string
 		for _, c := range codes {
 			if c.Len > 0 {
-				all = append(all, digits(c.Bits, c.Len))
+				all = append(all, bittext.Number(c.Bits, c.Len))
 			}
 		}
 		// In their order as texts those that begin with one stand just behind it.
@@ -580,7 +570,7 @@ func TestAnyArguments(t *testing.T) {
 		}
 		at := odd[r.Intn(len(odd))]
 		checkMay(t, l, plainMay(l))
-		checkPlainRead(t, l, digits(r.Intn(1<<20), r.Intn(20)), at)
+		checkPlainRead(t, l, bittext.Number(r.Intn(1<<20), r.Intn(20)), at)
 		if _, ok := Write(l, at); ok != (plainMay(l) && at >= 0 && at < len(l) && l[at] > 0) {
 			t.Errorf("Write(%v, %d): %v", l, at, ok)
 		}
